@@ -1,0 +1,1 @@
+"""Piledoors: what a module on a shared stack shows to its surroundings."""

@@ -1,0 +1,1 @@
+"""Stage 1: modules, their labels and their rules."""

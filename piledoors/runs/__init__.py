@@ -1,0 +1,1 @@
+"""Stage 2: runs, step by step."""

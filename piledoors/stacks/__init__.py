@@ -1,0 +1,1 @@
+"""Stage 5: long stacks, written as repeated words."""

@@ -1,0 +1,1 @@
+"""Stage 3: what becomes of a label, summed up for each head."""
