@@ -5,19 +5,17 @@ MAX_LETTERS = 8
 
 def is_whole(value):
     """Returns whether the value is an integer; True and False are none."""
-    return isinstance(value, int) and not isinstance(value, bool)
+    return type(value) is int
 
 
 def is_whole_within(value, low, high):
     """Returns whether the value is an integer from low to high."""
-    return is_whole(value) and low <= value <= high
+    return type(value) is int and low <= value <= high
 
 
 def is_name(value):
     """Returns whether the value is a name."""
-    if not (isinstance(value, str) and 1 <= len(value) <= MAX_LETTERS):
-        return False
-    return all(["a" <= letter <= "z" for letter in value])
+    return are_names((value,), True)
 
 
 def is_tuple_of(value, length):
@@ -25,11 +23,33 @@ def is_tuple_of(value, length):
     return isinstance(value, tuple) and len(value) == length
 
 
-def is_tuple_of_names(value):
-    """Returns whether the value is a tuple of names, in any order."""
-    return isinstance(value, tuple) and all([is_name(part) for part in value])
+def are_names(value, ascending):
+    """Returns whether the value is a tuple of names: ascending, or in any order."""
+    if not isinstance(value, tuple):
+        return False
+    last = ""
+    for name in value:
+        if not isinstance(name, str) or not 1 <= len(name) <= MAX_LETTERS:
+            return False
+        if ascending and name <= last:
+            return False
+        last = name
+    # The letters of all names are looked at together: this is faster.
+    text = "".join(value)
+    return not value or (text.isascii() and text.isalpha() and text.islower())
 
 
 def is_ascending(values):
-    """Returns whether the values, which have an order, ascend strictly."""
-    return all([low < high for low, high in zip(values, values[1:])])
+    """Returns whether the values, a list or a tuple of what has an order, ascend strictly."""
+    for at in range(1, len(values)):
+        if values[at] <= values[at - 1]:
+            return False
+    return True
+
+
+def has_boolean(parts):
+    """Returns whether one of the parts is True or False. These equal 1 and 0, but are no integers."""
+    for part in parts:
+        if isinstance(part, bool):
+            return True
+    return False

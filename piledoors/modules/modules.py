@@ -1,7 +1,7 @@
 """Modules: labels, states, entries, exits and rules."""
 
 from piledoors.errors import InvalidLabels, InvalidModule, InvalidRule, InvalidStack, UnknownEntry, UnknownState
-from piledoors.values import is_ascending, is_name, is_tuple_of, is_tuple_of_names, is_whole_within
+from piledoors.values import are_names, is_ascending, is_tuple_of, is_whole_within
 
 EMPTY = ""
 MAX_LABELS = 12
@@ -12,7 +12,7 @@ MAX_PUSH = 20
 
 def is_labels(value):
     """Returns whether the value is labels."""
-    return is_tuple_of_names(value) and 1 <= len(value) <= MAX_LABELS and is_ascending(value)
+    return are_names(value, True) and 1 <= len(value) <= MAX_LABELS
 
 
 def is_module(value):
@@ -20,9 +20,9 @@ def is_module(value):
     if not is_tuple_of(value, 5):
         return False
     labels, size, entries, exits, rules = value
-    if not (is_labels(labels) and is_whole_within(size, 1, MAX_STATES)):
+    if not (is_labels(labels) and is_whole_within(size, 1, MAX_STATES) and are_entries(size, entries, True)):
         return False
-    return is_entries(size, entries) and is_exits(exits) and is_rules(value, rules)
+    return len(entries) <= MAX_DOORS and is_exits(exits) and are_rules(value, rules, True)
 
 
 def is_stack(labels, value):
@@ -39,19 +39,19 @@ def is_rule(module, value):
 
 def make_module(labels, size, *, entries=(), exits=(), rules=()):
     """Returns the module with these parts, each of which may be in any order."""
-    if not (is_tuple_of_names(labels) and is_labels(tuple(sorted(labels)))):
+    if not (are_names(labels, False) and is_labels(tuple(sorted(labels)))):
         raise InvalidLabels("labels are one to twelve distinct names")
-    if not (is_whole_within(size, 1, MAX_STATES) and is_tuple_of_entries(size, entries) and is_tuple_of_names(exits)):
+    if not (is_whole_within(size, 1, MAX_STATES) and are_entries(size, entries, False) and are_names(exits, False)):
         raise InvalidModule("the size, an entry or an exit is of the wrong kind")
     bare = (tuple(sorted(labels)), size, tuple(sorted(entries)), tuple(sorted(exits)), ())
     if not is_module(bare):
         raise InvalidModule("there are too many entries or exits, or a name occurs twice")
-    if not is_tuple_of_rules(bare, rules):
+    if not are_rules(bare, rules, False):
         raise InvalidRule("a rule does not fit the module")
-    whole = with_rules(bare, rules)
-    if not is_ascending(heads_of(whole[4])):
+    ordered = tuple(sorted(rules, key=lambda rule: rule[:2]))
+    if not is_ascending(heads_of(ordered)):
         raise InvalidRule("two rules have the same head")
-    return whole
+    return bare[:4] + (ordered,)
 
 
 def rule_heads(module):
@@ -65,7 +65,7 @@ def rule_at(module, state, top):
     require_module(module)
     require_state(module, state)
     require_top(module, top)
-    return rule_table(module).get((state, top))
+    return rule_for(module[4], state, top)
 
 
 def start_state(module, entry):
@@ -79,8 +79,8 @@ def with_rule(module, rule):
     require_module(module)
     if not fits_module(module, rule):
         raise InvalidRule("the rule does not fit the module")
-    head = (rule[0], rule[1])
-    return with_rules(module, rules_besides(module, head) + (rule,))
+    before, behind = rules_around(module[4], rule[:2])
+    return module[:4] + (before + (rule,) + behind,)
 
 
 def without_rule(module, state, top):
@@ -88,10 +88,10 @@ def without_rule(module, state, top):
     require_module(module)
     require_state(module, state)
     require_top(module, top)
-    rest = rules_besides(module, (state, top))
-    if len(rest) == len(module[4]):
+    before, behind = rules_around(module[4], (state, top))
+    if len(before) + len(behind) == len(module[4]):
         raise InvalidRule("the module has no rule with this head")
-    return with_rules(module, rest)
+    return module[:4] + (before + behind,)
 
 
 # What follows is for the package. These functions take a module, labels or a size for granted,
@@ -104,58 +104,74 @@ def is_top(labels, value):
 
 
 def is_word(labels, value):
-    """Returns whether the value is a word over the labels."""
-    return isinstance(value, tuple) and all([label in labels for label in value])
-
-
-def is_tuple_of_entries(size, value):
-    """Returns whether the value is a tuple of entries, in any order and with any names."""
-    return isinstance(value, tuple) and all([is_entry(size, part) for part in value])
-
-
-def is_entry(size, value):
-    """Returns whether the value may stand among the entries of a module of this size."""
-    return is_tuple_of(value, 2) and is_name(value[0]) and is_whole_within(value[1], 0, size - 1)
-
-
-def is_entries(size, value):
-    """Returns whether the value is the entries of a module of this size."""
-    if not (is_tuple_of_entries(size, value) and len(value) <= MAX_DOORS):
+    """Returns whether the value is a word over the labels, which are a tuple or the keys of a dict."""
+    if not isinstance(value, tuple):
         return False
-    return is_ascending([name for name, state in value])
+    for label in value:
+        if not isinstance(label, str) or label not in labels:
+            return False
+    return True
+
+
+def are_entries(size, value, ascending):
+    """Returns whether the value is a tuple of entries of a module of this size: ascending, or in any order."""
+    if not isinstance(value, tuple):
+        return False
+    for part in value:
+        if not isinstance(part, tuple) or len(part) != 2 or not is_whole_within(part[1], 0, size - 1):
+            return False
+    return are_names(tuple([name for name, state in value]), ascending)
 
 
 def is_exits(value):
     """Returns whether the value is the exits of a module."""
-    return is_tuple_of_names(value) and len(value) <= MAX_DOORS and is_ascending(value)
+    return are_names(value, True) and len(value) <= MAX_DOORS
 
 
 def fits_module(module, value):
     """Returns whether the value may stand among the rules of the module, whose own rules do not matter."""
-    if not is_tuple_of(value, 4):
+    return are_rules(module, (value,), False)
+
+
+def are_rules(module, value, ascending):
+    """Returns whether the value is a tuple of rules of the module: with ascending heads, or in any order."""
+    if not isinstance(value, tuple):
         return False
-    labels, size, exits = module[0], module[1], module[3]
-    state, top, target, push = value
-    if not (is_whole_within(state, 0, size - 1) and is_top(labels, top)):
-        return False
-    if not (is_whole_within(target, 0, size - 1) or target in exits):
-        return False
-    return is_word(labels, push) and len(push) <= MAX_PUSH
-
-
-def is_tuple_of_rules(module, value):
-    """Returns whether the value is a tuple of rules of the module, in any order."""
-    return isinstance(value, tuple) and all([fits_module(module, part) for part in value])
-
-
-def is_rules(module, value):
-    """Returns whether the value may be all rules of the module."""
-    return is_tuple_of_rules(module, value) and is_ascending(heads_of(value))
+    labels, size, _, exits = module[:4]
+    known = {label: True for label in labels}
+    # Rules often push equal words, and two words are compared faster than each label is looked at.
+    words = [()] * (MAX_PUSH + 1)
+    last = -1
+    last_top = EMPTY
+    for rule in value:
+        if not isinstance(rule, tuple) or len(rule) != 4:
+            return False
+        state, top, target, push = rule
+        if type(state) is not int or not 0 <= state < size:
+            return False
+        if type(top) is not str or (top not in known and top != EMPTY):
+            return False
+        if ascending and state <= last and (state < last or top <= last_top):
+            return False
+        last = state
+        last_top = top
+        if type(target) is int:
+            if not 0 <= target < size:
+                return False
+        elif target not in exits:
+            return False
+        if not isinstance(push, tuple) or len(push) > MAX_PUSH:
+            return False
+        if push != words[len(push)]:
+            if not is_word(known, push):
+                return False
+            words[len(push)] = push
+    return True
 
 
 def heads_of(rules):
     """Returns the heads of the rules, in their order."""
-    return tuple([(rule[0], rule[1]) for rule in rules])
+    return tuple([rule[:2] for rule in rules])
 
 
 def start_of(module, entry):
@@ -171,14 +187,33 @@ def rule_table(module):
     return {(state, top): (target, push) for state, top, target, push in module[4]}
 
 
-def rules_besides(module, head):
-    """Returns the rules of the module that have another head."""
-    return tuple([rule for rule in module[4] if (rule[0], rule[1]) != head])
+def rule_for(rules, state, top):
+    """Returns the target and the push of the rule with this head, or None."""
+    at = place_of(rules, (state, top))
+    if at < len(rules) and rules[at][:2] == (state, top):
+        return rules[at][2:]
+    return None
 
 
-def with_rules(module, rules):
-    """Returns the module with these rules instead of its own."""
-    return module[:4] + (tuple(sorted(rules, key=lambda rule: (rule[0], rule[1]))),)
+def place_of(rules, head):
+    """Returns how many of the ascending rules have a smaller head."""
+    low = 0
+    high = len(rules)
+    while low < high:
+        middle = (low + high) // 2
+        if rules[middle][:2] < head:
+            low = middle + 1
+        else:
+            high = middle
+    return low
+
+
+def rules_around(rules, head):
+    """Returns the rules with smaller heads, and those with greater ones."""
+    at = place_of(rules, head)
+    if at < len(rules) and rules[at][:2] == head:
+        return rules[:at], rules[at + 1:]
+    return rules[:at], rules[at:]
 
 
 def require_labels(labels):

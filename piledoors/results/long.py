@@ -4,7 +4,7 @@ from piledoors.errors import InvalidBlocks
 from piledoors.modules.modules import require_module, start_of
 from piledoors.results.results import laid_bare
 from piledoors.stacks.blocks import is_blocks, label_of, without_first
-from piledoors.summaries.endings import EXIT, Endings
+from piledoors.summaries.endings import EXIT, Endings, head_table
 
 
 def result_of_blocks(module, entry, blocks):
@@ -13,15 +13,13 @@ def result_of_blocks(module, entry, blocks):
     state = start_of(module, entry)
     if not is_blocks(module[0], blocks):
         raise InvalidBlocks("not blocks over the labels of the module")
-    endings = Endings(module)
+    endings = Endings(head_table(module[4]))
     depth, state, ticks = deepest(endings, state, blocks)
-    head = (state, label_of(blocks, depth))
-    ending = endings.ending(head)
-    if ending.kind != EXIT:
+    told = endings.summary((state, label_of(blocks, depth)))
+    if told[0] != EXIT:
         return None
-    word = endings.word(head)
-    top = ((word, 1),) if word else ()
-    return ending.goal, top + without_first(blocks, depth + 1), ticks + ending.ticks
+    top = ((told[2], 1),) if told[2] else ()
+    return told[1], top + without_first(blocks, depth + 1), ticks + told[3]
 
 
 def deepest(endings, state, blocks):

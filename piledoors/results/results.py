@@ -1,7 +1,7 @@
 """The results of a module on stacks."""
 
 from piledoors.modules.modules import EMPTY, require_module, require_stack, start_of
-from piledoors.summaries.endings import EXIT, POP, Endings
+from piledoors.summaries.endings import EXIT, POP, Endings, head_table
 
 
 def descent(module, entry, stack):
@@ -9,7 +9,7 @@ def descent(module, entry, stack):
     require_module(module)
     state = start_of(module, entry)
     require_stack(module, stack)
-    return tuple(laid_bare(Endings(module), state, stack))
+    return tuple(laid_bare(Endings(head_table(module[4])), state, stack))
 
 
 def result(module, entry, stack):
@@ -17,13 +17,17 @@ def result(module, entry, stack):
     require_module(module)
     state = start_of(module, entry)
     require_stack(module, stack)
-    endings = Endings(module)
-    depth, state, ticks = laid_bare(endings, state, stack)[-1]
-    head = (state, stack[depth] if depth < len(stack) else EMPTY)
-    ending = endings.ending(head)
-    if ending.kind != EXIT:
+    endings = Endings(head_table(module[4]))
+    return result_behind(endings, stack, laid_bare(endings, state, stack)[-1])
+
+
+def result_behind(endings, stack, bare):
+    """Returns the result, or None, from the last depth that is laid bare, its state and the ticks until then."""
+    depth, state, ticks = bare
+    told = endings.summary((state, stack[depth] if depth < len(stack) else EMPTY))
+    if told[0] != EXIT:
         return None
-    return ending.goal, endings.word(head) + stack[depth + 1:], ticks + ending.ticks
+    return told[1], told[2] + stack[depth + 1:], ticks + told[3]
 
 
 def laid_bare(endings, state, stack):
@@ -32,9 +36,9 @@ def laid_bare(endings, state, stack):
     moments = [(0, state, 0)]
     for depth, label in enumerate(stack):
         ending = endings.ending((state, label))
-        if ending.kind != POP:
+        if ending[0] != POP:
             break
-        state = ending.goal
-        ticks = ticks + ending.ticks
+        state = ending[1]
+        ticks = ticks + ending[2]
         moments.append((depth + 1, state, ticks))
     return moments

@@ -1,7 +1,8 @@
 """Runs of a module, step by step."""
 
 from piledoors.errors import InvalidNumber
-from piledoors.modules.modules import EMPTY, require_module, require_stack, require_state, rule_table, start_of
+from piledoors.modules.modules import (EMPTY, require_module, require_stack, require_state, rule_for, rule_table,
+                                       start_of)
 from piledoors.values import is_tuple_of, is_whole_within
 
 MAX_TRACE = 200
@@ -14,7 +15,7 @@ def step(module, state, stack):
     require_module(module)
     require_state(module, state)
     require_stack(module, stack)
-    return effect_of(rule_table(module), state, stack)
+    return effect_of(rule_for(module[4], state, stack[0] if stack else EMPTY), stack)
 
 
 def trace(module, entry, stack, *, limit=100):
@@ -26,10 +27,11 @@ def trace(module, entry, stack, *, limit=100):
         raise InvalidNumber(limit)
     rules = rule_table(module)
     configurations = [(state, stack)]
-    effect = effect_of(rules, state, stack)
+    effect = effect_of(rules.get((state, stack[0] if stack else EMPTY)), stack)
     while effect[0] == "state" and len(configurations) <= limit:
-        configurations.append(effect[1:])
-        effect = effect_of(rules, effect[1], effect[2])
+        _, state, stack = effect
+        configurations.append((state, stack))
+        effect = effect_of(rules.get((state, stack[0] if stack else EMPTY)), stack)
     if effect == STUCK or (effect[0] == "exit" and len(configurations) <= limit):
         return tuple(configurations), effect
     return tuple(configurations), OPEN
@@ -46,13 +48,13 @@ def is_trace(module, entry, stack, value):
     for configuration in value[0]:
         if effect[0] != "state" or not is_same_configuration(effect[1:], configuration):
             return False
-        effect = effect_of(rules, effect[1], effect[2])
+        _, state, stack = effect
+        effect = effect_of(rules.get((state, stack[0] if stack else EMPTY)), stack)
     return is_end(effect, value[1])
 
 
-def effect_of(rules, state, stack):
-    """Returns the effect of a step by the rules of a rule table."""
-    rule = rules.get((state, stack[0] if stack else EMPTY))
+def effect_of(rule, stack):
+    """Returns the effect of a step by a target and a push, or by None if there is no rule."""
     if rule is None:
         return STUCK
     target, push = rule

@@ -1,125 +1,128 @@
 """How the run from a head ends, worked out on demand and without a single step of the run."""
 
-from piledoors.modules.modules import EMPTY, rule_table
+from piledoors.modules.modules import EMPTY
 
 POP = "pop"
 EXIT = "exit"
 NEVER = "never"
+RULE = "rule"
+NO_END = ("never",)
+BEGUN = ("begun",)
 
 
-class Ending:
-    """The end of the run from a head.
-
-    `goal` is the state after a pop, or the exit. The word of an exit is that of the head `inner`,
-    if there is one, followed by `rest`: the words of a chain of heads contain one another, so they
-    are put together only where they are asked for.
-    """
-
-    def __init__(self, kind, goal=None, ticks=0, rest=(), inner=None):
-        self.kind = kind
-        self.goal = goal
-        self.ticks = ticks
-        self.rest = rest
-        self.inner = inner
+def head_table(rules, ticks=1):
+    """Returns a dict from each head that has a rule to what is known of it. Each step takes these ticks."""
+    return {(state, top): known_at_once(top, target, push, ticks) for state, top, target, push in rules}
 
 
-class Visit:
-    """A head whose rule has been applied, and what is taken so far of its push."""
-
-    def __init__(self, head, target, push):
-        self.head = head
-        self.state = target
-        self.push = push
-        self.taken = 0
-        self.ticks = 1
-
-    def needed(self):
-        """Returns the head to which the run comes next, or None if the label of this one is gone."""
-        if self.taken < len(self.push):
-            return (self.state, self.push[self.taken])
-        if self.head[1] == EMPTY:
-            return (self.state, EMPTY)
-        return None
-
-    def take(self, ending):
-        """Goes on behind the pop of the label that is next."""
-        self.state = ending.goal
-        self.ticks = self.ticks + ending.ticks
-        self.taken = self.taken + 1
-
-    def last(self, inner, ending):
-        """Returns the ending of this head, if the one of the head needed next is no pop."""
-        if ending.kind == NEVER:
-            return Ending(NEVER)
-        return Ending(EXIT, ending.goal, self.ticks + ending.ticks, self.push[self.taken + 1:], inner)
+def known_at_once(top, target, push, ticks):
+    """Returns the ending of a head with this top and this rule, if no other head matters for it, or else the rule."""
+    if isinstance(target, str):
+        return (EXIT, target, push, ticks)
+    if push or top == EMPTY:
+        return (RULE, target, push, ticks)
+    return (POP, target, ticks)
 
 
 class Endings:
-    """The endings of the heads of a module. Only the heads that are asked for and their visited heads are known."""
+    """The endings of heads. They take the places of the rules in a head table, once they are worked out.
 
-    def __init__(self, module):
-        self.rules = rule_table(module)
-        self.known = {}
+    An ending is a summary, but for some exits: `(EXIT, exit, rest, ticks, inner)` has the word of the head
+    `inner`, followed by `rest`. The words of a chain of heads contain one another, so they are put together
+    only where they are asked for.
+    """
+
+    def __init__(self, table):
+        self.known = table
 
     def ending(self, head):
         """Returns the ending of the head."""
-        if head not in self.known:
+        told = self.known.get(head, NO_END)
+        if told[0] == RULE:
             self.work_out(head)
-        return self.known[head]
+            return self.known[head]
+        return told
 
     def work_out(self, head):
-        """Finds the endings of a head and of those that it needs.
+        """Finds the endings of a head that has a rule and of those that it needs.
 
         The heads that wait for another one stand in a list, because a chain of them can be too long
         for calls within calls.
         """
-        visits = []
-        begun = {}
-        self.begin(head, visits, begun)
+        known = self.known
+        visits = [self.begin(head)]
         while visits:
-            visit = visits[-1]
-            needed = visit.needed()
-            if needed is None:
-                self.known[visit.head] = Ending(POP, visit.state, visit.ticks)
-                visits.pop()
-            elif needed not in self.known and needed not in begun:
-                self.begin(needed, visits, begun)
-            elif needed in self.known and self.known[needed].kind == POP:
-                visit.take(self.known[needed])
+            head, state, labels, taken, ticks = visits.pop()
+            for at in range(taken, len(labels)):
+                needed = (state, labels[at])
+                ending = known.get(needed, NO_END)
+                if ending[0] == POP:
+                    state = ending[1]
+                    ticks = ticks + ending[2]
+                elif ending[0] == RULE:
+                    visits.append((head, state, labels, at, ticks))
+                    visits.append(self.begin(needed))
+                    break
+                else:
+                    # A head that is begun, but not known, waits for this one: it needs itself.
+                    rest = labels[at + 1:] if head[1] != EMPTY else labels[at + 1:-1]
+                    known[head] = outer_ending(ticks, needed, ending, rest)
+                    break
             else:
-                # A head that is begun and not yet known needs itself.
-                ending = self.known.get(needed, Ending(NEVER))
-                self.known[visit.head] = visit.last(needed, ending)
-                visits.pop()
+                known[head] = (POP, state, ticks)
 
-    def begin(self, head, visits, begun):
-        """Finds the ending of a head that needs no other one, or adds a visit."""
-        rule = self.rules.get(head)
-        if rule is None:
-            self.known[head] = Ending(NEVER)
-        elif isinstance(rule[0], str):
-            self.known[head] = Ending(EXIT, rule[0], 1, rule[1])
-        else:
-            begun[head] = True
-            visits.append(Visit(head, rule[0], rule[1]))
-
-    def word(self, head):
-        """Returns the word of a head that has an exit."""
-        parts = []
-        while head is not None:
-            ending = self.ending(head)
-            parts.append(ending.rest)
-            head = ending.inner
-        word = []
-        for part in reversed(parts):
-            word.extend(part)
-        return tuple(word)
+    def begin(self, head):
+        """Returns the visit of a head: the head, the state, the labels to take, how many are taken, and the ticks."""
+        _, target, push, ticks = self.known[head]
+        self.known[head] = BEGUN
+        # The run from an empty stack goes on when all labels are taken, as if the empty top were one more.
+        return (head, target, push if head[1] != EMPTY else push + (EMPTY,), 0, ticks)
 
     def summary(self, head):
         """Returns the summary of the head."""
         ending = self.ending(head)
-        if ending.kind == POP:
-            return (POP, ending.goal, ending.ticks)
-        if ending.kind == EXIT:
-            return (EXIT, ending.goal, self.word(head), ending.ticks)
-        return (NEVER,)
+        if len(ending) > 4:
+            return (EXIT, ending[1], self.word(head), ending[3])
+        return ending
+
+    def word(self, head):
+        """Returns the word of a head that is known to have an exit."""
+        rests = []
+        while head is not None:
+            ending = self.known[head]
+            rests.append(ending[2])
+            head = ending[4] if len(ending) > 4 else None
+        rests.reverse()
+        return tuple([label for rest in rests for label in rest])
+
+    def summaries(self):
+        """Returns a dict from each head that has a rule to its summary."""
+        known = self.known
+        heads = [head for head, ending in known.items() if ending[0] == RULE]
+        for head in heads:
+            if known[head][0] == RULE:
+                self.work_out(head)
+        for head in heads:
+            if len(known[head]) > 4:
+                self.put_together(head)
+        return known
+
+    def put_together(self, head):
+        """Turns the ending of a head, and of those whose words it contains, into summaries."""
+        known = self.known
+        heads = []
+        while len(known[head]) > 4:
+            heads.append(head)
+            head = known[head][4]
+        for outer in reversed(heads):
+            _, door, rest, ticks, inner = known[outer]
+            known[outer] = (EXIT, door, known[inner][2] + rest, ticks)
+
+
+def outer_ending(ticks, inner, ending, rest):
+    """Returns the ending of a head that comes, after these ticks, to an inner head whose ending is no pop."""
+    if ending[0] != EXIT:
+        return NO_END
+    if rest:
+        return (EXIT, ending[1], rest, ticks + ending[3], inner)
+    return ending[:3] + (ticks + ending[3],) + ending[4:]

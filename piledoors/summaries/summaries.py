@@ -1,64 +1,76 @@
 """The summaries of the heads of a module."""
 
-from piledoors.modules.modules import EMPTY, require_module, require_state, require_top
-from piledoors.summaries.endings import Endings
-from piledoors.values import is_tuple_of
+from piledoors.modules.modules import EMPTY, require_module, require_state, require_top, rule_table
+from piledoors.summaries.endings import NO_END, POP, Endings, head_table
+from piledoors.values import has_boolean
 
 
 def summary(module, state, top):
     """Returns the summary of the head."""
-    return endings_from(module, state, top).summary((state, top))
+    require_head(module, state, top)
+    return Endings(head_table(module[4])).summary((state, top))
 
 
 def summaries(module):
     """Returns a dict from each head, with or without a rule, to its summary."""
     require_module(module)
-    endings = Endings(module)
-    return {head: endings.summary(head) for head in all_heads(module)}
+    return all_summaries(module)
 
 
 def visited_heads(module, state, top):
     """Returns the visited heads of the head, ascending."""
-    return tuple(sorted(endings_from(module, state, top).known))
+    require_head(module, state, top)
+    rules = rule_table(module)
+    endings = Endings(head_table(module[4]))
+    visited = {(state, top): True}
+    waiting = [(state, top)]
+    while waiting:
+        for head in needed_heads(rules, endings, waiting.pop()):
+            if head not in visited:
+                visited[head] = True
+                waiting.append(head)
+    return tuple(sorted(visited))
 
 
 def is_summary_paper(module, value):
     """Returns whether the value is the summary paper of the module."""
     require_module(module)
-    heads = all_heads(module)
-    if not (isinstance(value, dict) and len(value) == len(heads) and all([is_plain_head(key) for key in value])):
+    if not isinstance(value, dict) or len(value) != module[1] * (1 + len(module[0])):
         return False
-    endings = Endings(module)
-    for head in heads:
-        if head not in value or not is_same_summary(endings.summary(head), value[head]):
+    if value != all_summaries(module):
+        return False
+    for head, told in value.items():
+        if has_boolean(head) or has_boolean(told):
             return False
     return True
 
 
-def all_heads(module):
-    """Returns all heads of the module, with or without a rule, ascending."""
+def all_summaries(module):
+    """Returns a dict from each head of the module to its summary."""
     tops = (EMPTY,) + module[0]
-    return [(state, top) for state in range(module[1]) for top in tops]
+    found = Endings(head_table(module[4])).summaries()
+    return {(state, top): found.get((state, top), NO_END) for state in range(module[1]) for top in tops}
 
 
-def endings_from(module, state, top):
-    """Returns the endings of exactly the visited heads of the head.
+def needed_heads(rules, endings, head):
+    """Returns the heads whose summaries the one of this head is put together from."""
+    if head not in rules or isinstance(rules[head][0], str):
+        return []
+    state, labels = rules[head]
+    if head[1] == EMPTY:
+        labels = labels + (EMPTY,)
+    needed = []
+    for label in labels:
+        needed.append((state, label))
+        ending = endings.ending((state, label))
+        if ending[0] != POP:
+            break
+        state = ending[1]
+    return needed
 
-    An ending is found by looking only at those heads to which the run comes.
-    """
+
+def require_head(module, state, top):
+    """Raises an error if this is not a module, or not a head of it."""
     require_module(module)
     require_state(module, state)
     require_top(module, top)
-    endings = Endings(module)
-    endings.work_out((state, top))
-    return endings
-
-
-def is_plain_head(value):
-    """Returns whether the value is a pair of which the first part is not True or False, which equal 1 and 0."""
-    return is_tuple_of(value, 2) and not isinstance(value[0], bool)
-
-
-def is_same_summary(told, value):
-    """Returns whether the value is this summary. It is compared with care: True equals 1."""
-    return value == told and not any([isinstance(part, bool) for part in value])
