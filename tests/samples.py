@@ -13,6 +13,13 @@ M = (AB, 3, (("in", 0),), ("out",), (
     (2, "", "out", ("b",)), (2, "a", "out", ("b", "a")), (2, "b", "out", ("b", "b"))))
 C = (AB, 1, (("in", 0),), ("out",), ((0, "", "out", ()), (0, "a", 0, ()), (0, "b", 0, ("a", "a"))))
 G = (AB, 1, (("in", 0),), ("out",), ((0, "", "out", ()), (0, "a", 0, ("a", "b", "a"))))
+V = (AB, 2, (("in", 0),), ("out",), ((0, "b", 1, ()), (1, "a", "out", ())))
+T = (AB, 2, (("in", 0),), ("low", "out"), (
+    (0, "", "low", ()), (0, "a", 1, ("a",)), (0, "b", "out", ("b",)), (1, "a", 0, ())))
+B = (AB, 1, (("in", 0),), ("low", "out"), ((0, "a", 0, ()), (0, "b", "out", ("b",))))
+J = (AB, 1, (("in", 0),), ("out",), ((0, "a", "out", ("a",)),))
+E = (AB, 1, (("cut", 0),), ("next",), ((0, "b", "next", ()),))
+H = (AB, 1, (("in", 0),), ("done", "more"), ((0, "", "done", ()), (0, "a", "more", ()), (0, "b", "done", ("b",))))
 SAMPLES = (D, N, M, C, G)
 
 
@@ -144,3 +151,205 @@ def chain(heads, last):
         rules.append(head + (needed[0], (needed[1],) if needed[1] else ()))
     entries = (("in", row[0][0]),)
     return (labels, 100, entries, ("out",), tuple(sorted(rules))), row
+
+
+def putting_back(size, labels):
+    """A module whose states 0 to size read labels a, so many, and put them back wherever they leave.
+
+    A word of more than nineteen labels is put back by several states behind these, each with nineteen more labels.
+    """
+    rules = []
+    for state in range(size + 1):
+        for top in ("",) + labels:
+            helpers = max(0, -((19 - state) // 19))
+            word = ("a",) * (state - 19 * helpers) + ((top,) if top else ())
+            if top == "a" and state < size:
+                rules.append((state, top, state + 1, ()))
+            else:
+                rules.append((state, top, size + 1 + helpers if helpers else "out", word))
+    last = max(0, -((19 - size) // 19))
+    rules += [(size + 1 + helper, "a", size + helper if helper else "out", ("a",) * (20 if helper else 1))
+              for helper in range(last + 1)]
+    return (labels, size + 2 + last, (("in", 0),), ("low", "out"), tuple(rules))
+
+
+class Walks:
+    """The results of a module, found by single steps. A run longer than the limit is taken for endless."""
+
+    def __init__(self, module, limit):
+        self.module = module
+        self.limit = limit
+        self.starts = dict(module[2])
+        self.known = {}
+
+    def result(self, entry, stack):
+        return self.result_from(self.starts[entry], stack)
+
+    def result_from(self, state, stack):
+        if (state, stack) not in self.known:
+            self.known[(state, stack)] = walk_result(self.module, state, stack, self.limit)
+        return self.known[(state, stack)]
+
+
+def without_ticks(told):
+    """A result without its ticks."""
+    return None if told is None else told[:2] + (0,)
+
+
+def moved(module, order):
+    """The module with its states in another order: state k becomes order[k]."""
+    rules = sorted((order[state], top, order[target] if isinstance(target, int) else target, push)
+                   for state, top, target, push in module[4])
+    return module[:2] + (tuple((name, order[state]) for name, state in module[2]), module[3], tuple(rules))
+
+
+def with_copy(module, draw):
+    """The module with a copy of a state. Some rules and entries lead to the copy instead."""
+    labels, size, entries, exits, rules = module
+    state = draw.randrange(size)
+    rules += tuple((size,) + rule[1:] for rule in rules if rule[0] == state)
+    rules = tuple(rule[:2] + (draw.choice([state, size]),) + rule[3:] if rule[2] == state else rule for rule in rules)
+    entries = tuple((name, draw.choice([state, size]) if start == state else start) for name, start in entries)
+    return (labels, size + 1, entries, exits, rules)
+
+
+def with_slower_rule(module, draw):
+    """The module with a rule that takes one more tick, if it has a rule for a label."""
+    labels, size, entries, exits, rules = module
+    old = [rule for rule in rules if rule[1]]
+    if not old:
+        return module
+    rule = draw.choice(old)
+    slow = rule[:2] + (size, rule[1:2])
+    rules = tuple(slow if one == rule else one for one in rules) + ((size,) + rule[1:],)
+    return (labels, size + 1, entries, exits, rules)
+
+
+def with_other_rule(module, draw):
+    """The module with one rule changed, added or left out."""
+    labels, size, entries, exits, rules = module
+    head = (draw.randrange(size), draw.choice(("",) + labels))
+    rules = [rule for rule in rules if rule[:2] != head]
+    if draw.random() < 0.8:
+        target = draw.choice(list(range(size)) + list(exits))
+        rules.append(head + (target, tuple(draw.choice(labels) for _ in range(draw.randrange(3)))))
+    return (labels, size, entries, exits, tuple(sorted(rules, key=lambda rule: rule[:2])))
+
+
+def make_keeping_modules(seed, many, most=4):
+    """Modules that often remove labels and put them back, so that states are settled. Ticks differ now and then."""
+    draw = random.Random(seed)
+    modules = []
+    for _ in range(many):
+        size = draw.randint(2, most)
+        words = {0: ()}
+        rules = []
+        for state in range(size):
+            word = words.get(state, ("a",))
+            for top in ("",) + AB:
+                behind = draw.randrange(size)
+                if top and behind > state and draw.random() < 0.7 and words.setdefault(behind, word + (top,)) == word + (top,):
+                    rules.append((state, top, behind, ()))
+                elif draw.random() < 0.9:
+                    told = word + (top,) if top else word
+                    if draw.random() < 0.05:
+                        told = told + ("a",)
+                    if top and draw.random() < 0.1:
+                        rules.append((state, top, state, ("b",) if top == "a" else ()))
+                    else:
+                        rules.append((state, top, "out" if draw.random() < 0.95 else "low", told))
+        entries = tuple(("e" + "abcd"[state], state) for state in range(size))
+        modules.append((AB, size, entries, ("low", "out"), tuple(rules)))
+    return modules
+
+
+def make_pairs(seed, many):
+    """Pairs of comparable modules that are often equivalent, or nearly so, with a limit for runs that are not endless."""
+    draw = random.Random(seed)
+    pairs = []
+    modules = make_random_modules(seed, many, AB, 3, 2) + make_random_modules(seed + 1, many, ("a",), 4, 2)
+    for module in modules + make_keeping_modules(seed + 2, many, 3):
+        module = module[:2] + (module[2][:2],) + module[3:]
+        other = module
+        for change in draw.choices([with_copy, with_slower_rule, with_other_rule], k=draw.choice([0, 1, 1, 2])):
+            other = change(other, draw)
+        order = list(range(other[1]))
+        draw.shuffle(order)
+        other = moved(other, order)
+        pairs.append((module, other) if draw.random() < 0.5 else (other, module))
+    return pairs
+
+
+def ring(size, leaves, labels=("a",), stuck=False):
+    """A module that goes round its states, one label after another, and leaves on the empty stack where `leaves` tells.
+
+    In other states it leaves by another exit, or is stuck.
+    """
+    rules = []
+    for state in range(size):
+        if leaves(state) or not stuck:
+            rules.append((state, "", "out" if leaves(state) else "low", ()))
+        rules += [(state, label, (state + 1) % size, ()) for label in labels]
+    return (labels, size, (("in", 0),), ("low", "out"), tuple(rules))
+
+
+def visits(parts, wires, door, stack, limit, most=60):
+    """The result of linked modules, by visits to the parts, each of which is walked step by step.
+
+    parts: Walks or, for contexts, anything with their `result`. door: a pair of a side and an entry. A visit that is
+    longer than the limit, and more visits than `most`, are taken for endless.
+    """
+    ways = dict(wires)
+    ticks = 0
+    for _ in range(most):
+        side, name = door
+        told = parts[side].result(name, stack)
+        if told is None:
+            return None
+        leave, stack, more = told
+        ticks += more
+        if (side, leave) not in ways:
+            return (leave, stack, ticks)
+        door = ways[(side, leave)]
+    return None
+
+
+def random_wires(draw, first, second):
+    """Wires between two modules, and entries that can be kept, all of which are chosen at random."""
+    doors = [(side, door) for side, module in enumerate((first, second)) for door in module[3]]
+    entries = [(side, name) for side, module in enumerate((first, second)) for name, _ in module[2]]
+    wires = tuple((door, draw.choice(entries)) for door in sorted(doors) if draw.random() < 0.7)
+    reached = sorted(set(entry for _, entry in wires))
+    return wires, tuple(entry for entry in reached if draw.random() < 0.7)
+
+
+def make_linked(seed, many):
+    """Tuples of two modules with different names of entries, wires, and kept entries."""
+    draw = random.Random(seed)
+    found = []
+    modules = make_random_modules(seed, 2 * many, AB, 3, 2) + make_keeping_modules(seed + 1, 2 * many, 3)
+    for _ in range(many):
+        first, second = draw.sample(modules, 2)
+        first = first[:2] + (first[2][:2],) + first[3:]
+        second = second[:2] + (tuple(("f" + name[1:], state) for name, state in second[2][:2]),) + second[3:]
+        found.append((first, second) + random_wires(draw, first, second))
+    return found
+
+
+class Closure:
+    """Papers of parts that need others. A class below tells by `all_needed` what some parts, and the entries, need:
+
+    None where nothing is needed, False where nothing helps.
+    """
+
+    def closure(self, parts):
+        """These parts with all that are needed; None if something is needed that does not help, or too many."""
+        found = set(parts)
+        while len(found) < 200:
+            more = set(self.all_needed(found)) - {None}
+            if False in more:
+                return None
+            if more <= found:
+                return tuple(sorted(found))
+            found |= more
+        return None

@@ -1,0 +1,1 @@
+"""Stages 9 and 10: equivalent modules, and modules that may replace others."""

@@ -1,0 +1,1 @@
+"""Stages 7 and 8: settled states and interfaces."""
