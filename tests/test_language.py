@@ -6,10 +6,10 @@ import unittest
 
 PACKAGE = pathlib.Path(__file__).resolve().parent.parent / "piledoors"
 BUILTINS = set("len range enumerate zip min max sum abs sorted reversed int str bool list tuple dict set isinstance ord "
-               "repr any all divmod".split())
+               "repr any all divmod type".split())
 ERRORS = set("ValueError KeyError IndexError LookupError ArithmeticError OverflowError RuntimeError".split())
-METHODS = set("append clear copy count endswith extend find get index insert items join keys pop remove setdefault split "
-              "startswith update values".split())
+METHODS = set("append clear copy count endswith extend find get index insert isalpha isascii islower items join keys pop "
+              "remove reverse setdefault split startswith update values".split())
 # A smaller language than the rules allow, so that it is easy to check.
 NODES = (ast.Module, ast.Expr, ast.Constant, ast.ImportFrom, ast.alias, ast.FunctionDef, ast.ClassDef, ast.arguments,
          ast.arg, ast.Assign, ast.Name, ast.Load, ast.Store, ast.Return, ast.If, ast.For, ast.While, ast.Break,
@@ -18,19 +18,37 @@ NODES = (ast.Module, ast.Expr, ast.Constant, ast.ImportFrom, ast.alias, ast.Func
          ast.USub, ast.BinOp, ast.Add, ast.Sub, ast.Mult, ast.FloorDiv, ast.Mod, ast.Pow, ast.Compare, ast.Eq, ast.NotEq,
          ast.Lt, ast.LtE, ast.Gt, ast.GtE, ast.Is, ast.IsNot, ast.In, ast.NotIn, ast.IfExp, ast.Lambda, ast.JoinedStr,
          ast.FormattedValue, ast.Pass)
-BARRED = set("mro elements open input law register type id dir vars exit help quit compile eval exec next iter map filter "
+BARRED = set("mro elements open input law register id dir vars exit help quit compile eval exec next iter map filter "
              "hash round super object format".split())
 INTERFACE = {
     "errors": "PileError InvalidLabels InvalidStack InvalidModule InvalidRule InvalidInterface InvalidWires InvalidBlocks "
               "InvalidContext InvalidProgram InvalidEdit InvalidClaim ParseError InvalidCommand UnknownEntry UnknownState "
               "InvalidNumber UnknownModule NameConflict TooLarge NotEquivalent NothingToUndo",
-    "modules/modules": "is_labels is_module is_stack is_rule make_module rule_heads rule_at start_state with_rule "
-                       "without_rule",
-    "runs/runs": "step trace is_trace",
-    "summaries/summaries": "summary summaries visited_heads is_summary_paper",
-    "results/results": "descent result",
-    "stacks/blocks": "is_blocks blocks_length label_at spelled same_stack dropped",
-    "results/long": "result_of_blocks",
+    "modules/modules": "EMPTY MAX_LABELS MAX_STATES MAX_DOORS MAX_PUSH is_labels(value) is_module(value) "
+                       "is_stack(labels,value) is_rule(module,value) make_module(labels,size,*,entries=,exits=,rules=) "
+                       "rule_heads(module) rule_at(module,state,top) start_state(module,entry) with_rule(module,rule) "
+                       "without_rule(module,state,top)",
+    "runs/runs": "MAX_TRACE step(module,state,stack) trace(module,entry,stack,*,limit=) is_trace(module,entry,stack,value)",
+    "runs/moments": "MAX_TICK moment(module,entry,stack,tick) fate(module,entry,stack) is_fate(module,entry,stack,value)",
+    "summaries/summaries": "summary(module,state,top) summaries(module) visited_heads(module,state,top) "
+                           "is_summary_paper(module,value)",
+    "results/results": "descent(module,entry,stack) result(module,entry,stack)",
+    "stacks/blocks": "MAX_TIMES MAX_SPELLED is_blocks(labels,value) blocks_length(labels,blocks) "
+                     "label_at(labels,blocks,position) spelled(labels,blocks) same_stack(labels,first,second) "
+                     "dropped(labels,blocks,many)",
+    "results/long": "result_of_blocks(module,entry,blocks)",
+    "interfaces/settled": "leaving_stack(module,state) settled(module,state,*,clock=) "
+                          "refutation(module,state,claim,*,clock=)",
+    "interfaces/interfaces": "interface(module,*,clock=) is_interface(value) interface_result(interface,entry,stack)",
+    "compare/equivalence": "reading(module,state,top,*,clock=) are_equivalent(first,second,*,clock=) "
+                           "separating_stack(first,second,*,clock=) likeness(first,second,*,clock=) "
+                           "is_likeness(first,second,value,*,clock=)",
+    "compare/replacement": "may_replace(old,new) replacement_gap(old,new) replacement(old,new) is_replacement(old,new,value)",
+    "linking/link": "is_wires(first,second,value) link(first,second,wires,*,kept=) link_self(module,wires,*,kept=) "
+                    "rename(module,*,entries=,exits=)",
+    "linking/contexts": "is_context(module,value) context_outcome(module,context) separating_context(first,second,*,clock=)",
+    "linking/interfaces": "link_interfaces(first,second,wires,*,kept=) link_self_interface(interface,wires,*,kept=) "
+                          "rename_interface(interface,*,entries=,exits=)",
 }
 
 
@@ -106,11 +124,67 @@ class LanguageTest(unittest.TestCase):
                 if isinstance(node, ast.Call) and isinstance(node.func, ast.Attribute):
                     self.assertIn(node.func.attr, METHODS | methods, f"{path}:{node.lineno}")
 
+    def test_types_are_only_compared(self):
+        for path, tree in trees().items():
+            compared = [node.left for node in ast.walk(tree) if isinstance(node, ast.Compare) and len(node.ops) == 1
+                        and isinstance(node.ops[0], (ast.Is, ast.IsNot)) and isinstance(node.comparators[0], ast.Name)
+                        and node.comparators[0].id in ("int", "str")]
+            for node in ast.walk(tree):
+                if isinstance(node, ast.Call) and isinstance(node.func, ast.Name) and node.func.id == "type":
+                    self.assertIn(node, compared, f"{path}:{node.lineno}")
+
+    def test_imports(self):
+        """Names come from the very file that defines them, and no two files import from each other."""
+        files = {".".join(path.relative_to(PACKAGE.parent).with_suffix("").parts): tree for path, tree in trees().items()}
+        imports = {name: [node for node in tree.body if isinstance(node, ast.ImportFrom)] for name, tree in files.items()}
+        for name, nodes in imports.items():
+            for node in nodes:
+                defined = [each for part in files[node.module].body if not isinstance(part, ast.ImportFrom)
+                           for each in self.bound_by(part)]
+                self.assertLessEqual({part.name for part in node.names}, set(defined), (name, node.module))
+        left = {name: {node.module for node in nodes} for name, nodes in imports.items()}
+        while left:
+            free = [name for name, modules in left.items() if not modules & set(left)]
+            self.assertNotEqual(free, [], left)
+            left = {name: modules for name, modules in left.items() if name not in free}
+
+    def test_attributes(self):
+        """No attribute has the name of a method of its class, or of a method of a builtin value."""
+        for path, tree in trees().items():
+            for each in [node for node in tree.body if isinstance(node, ast.ClassDef)]:
+                methods = {node.name for node in each.body if isinstance(node, ast.FunctionDef)}
+                for node in ast.walk(each):
+                    if isinstance(node, ast.Attribute) and isinstance(node.ctx, ast.Store):
+                        self.assertNotIn(node.attr, methods, path)
+                        self.assertFalse([kind for kind in ("", 0, [], {}, (), set()) if hasattr(kind, node.attr)], node.attr)
+
+    def test_module_level(self):
+        """Only plain values stand there, which contain no names."""
+        for path, tree in trees().items():
+            for node in tree.body:
+                if isinstance(node, ast.Assign):
+                    self.assertEqual(len(node.targets), 1, path)
+                    self.assertFalse([part for part in ast.walk(node.value) if isinstance(part, (ast.Name, ast.Call))], path)
+
     def test_interface(self):
         for name, members in INTERFACE.items():
             tree = trees()[PACKAGE / (name + ".py")]
-            defined = {node.name for node in tree.body if isinstance(node, (ast.FunctionDef, ast.ClassDef))}
-            self.assertLessEqual(set(members.split()), defined)
+            bound = [each for node in tree.body if not isinstance(node, ast.ImportFrom) for each in self.bound_by(node)]
+            functions = {node.name: node for node in tree.body if isinstance(node, ast.FunctionDef)}
+            for member in members.split():
+                plain, _, parameters = member.partition("(")
+                self.assertIn(plain, bound)
+                if parameters:
+                    self.assertEqual(self.signature(functions[plain].args), parameters[:-1], member)
             for node in tree.body:
                 if isinstance(node, (ast.FunctionDef, ast.ClassDef)):
                     self.assertTrue(ast.get_docstring(node), node.name)
+
+    def signature(self, args):
+        self.assertEqual((args.vararg, args.kwarg, args.posonlyargs, args.defaults), (None, None, [], []))
+        parts = [arg.arg for arg in args.args] + (["*"] if args.kwonlyargs else [])
+        return ",".join(parts + [arg.arg + ("=" if default else "") for arg, default in zip(args.kwonlyargs, args.kw_defaults)])
+
+
+if __name__ == "__main__":
+    unittest.main()
