@@ -5,12 +5,12 @@ MAX_LETTERS = 8
 
 def is_whole(value):
     """Returns whether the value is an integer; True and False are none."""
-    return type(value) is int
+    return type(value) == int
 
 
 def is_whole_within(value, low, high):
     """Returns whether the value is an integer from low to high."""
-    return type(value) is int and low <= value <= high
+    return type(value) == int and low <= value <= high
 
 
 def is_name(value):

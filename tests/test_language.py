@@ -124,10 +124,17 @@ class LanguageTest(unittest.TestCase):
                 if isinstance(node, ast.Call) and isinstance(node.func, ast.Attribute):
                     self.assertIn(node.func.attr, METHODS | methods, f"{path}:{node.lineno}")
 
+    def test_identity(self):
+        """Only None, True and False are compared by `is`."""
+        for path, tree in trees().items():
+            for node in ast.walk(tree):
+                if isinstance(node, ast.Compare) and [each for each in node.ops if isinstance(each, (ast.Is, ast.IsNot))]:
+                    self.assertIsInstance(node.comparators[0], ast.Constant, f"{path}:{node.lineno}")
+
     def test_types_are_only_compared(self):
         for path, tree in trees().items():
             compared = [node.left for node in ast.walk(tree) if isinstance(node, ast.Compare) and len(node.ops) == 1
-                        and isinstance(node.ops[0], (ast.Is, ast.IsNot)) and isinstance(node.comparators[0], ast.Name)
+                        and isinstance(node.ops[0], (ast.Eq, ast.NotEq)) and isinstance(node.comparators[0], ast.Name)
                         and node.comparators[0].id in ("int", "str")]
             for node in ast.walk(tree):
                 if isinstance(node, ast.Call) and isinstance(node.func, ast.Name) and node.func.id == "type":

@@ -60,7 +60,8 @@ def parts_of(rows):
         parts[state] = shapes.setdefault(shape, len(shapes))
         follow[state] = [reading[1] for reading in row if reading[0] == STATE]
     many = 0
-    while many < len(shapes):
+    # This ends when no part is divided any more, or there is nothing left to divide.
+    while many < len(shapes) < len(rows):
         many = len(shapes)
         shapes = {}
         finer = {}

@@ -147,15 +147,15 @@ def are_rules(module, value, ascending):
         if not isinstance(rule, tuple) or len(rule) != 4:
             return False
         state, top, target, push = rule
-        if type(state) is not int or not 0 <= state < size:
+        if type(state) != int or not 0 <= state < size:
             return False
-        if type(top) is not str or (top not in known and top != EMPTY):
+        if not isinstance(top, str) or (top not in known and top != EMPTY):
             return False
         if ascending and state <= last and (state < last or top <= last_top):
             return False
         last = state
         last_top = top
-        if type(target) is int:
+        if type(target) == int:
             if not 0 <= target < size:
                 return False
         elif target not in exits:

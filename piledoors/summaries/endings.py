@@ -50,26 +50,29 @@ class Endings:
         for calls within calls.
         """
         known = self.known
-        visits = [self.begin(head)]
-        while visits:
-            head, state, labels, taken, ticks = visits.pop()
-            for at in range(taken, len(labels)):
+        visits = []
+        head, state, labels, at, ticks = self.begin(head)
+        while True:
+            if at < len(labels):
                 needed = (state, labels[at])
                 ending = known.get(needed, NO_END)
                 if ending[0] == POP:
                     state = ending[1]
                     ticks = ticks + ending[2]
-                elif ending[0] == RULE:
+                    at = at + 1
+                    continue
+                if ending[0] == RULE:
                     visits.append((head, state, labels, at, ticks))
-                    visits.append(self.begin(needed))
-                    break
-                else:
-                    # A head that is begun, but not known, waits for this one: it needs itself.
-                    rest = labels[at + 1:] if head[1] != EMPTY else labels[at + 1:-1]
-                    known[head] = outer_ending(ticks, needed, ending, rest)
-                    break
+                    head, state, labels, at, ticks = self.begin(needed)
+                    continue
+                # A head that is begun, but not known, waits for this one: it needs itself.
+                rest = labels[at + 1:] if head[1] != EMPTY else labels[at + 1:-1]
+                known[head] = outer_ending(ticks, needed, ending, rest)
             else:
                 known[head] = (POP, state, ticks)
+            if not visits:
+                return
+            head, state, labels, at, ticks = visits.pop()
 
     def begin(self, head):
         """Returns the visit of a head: the head, the state, the labels to take, how many are taken, and the ticks."""

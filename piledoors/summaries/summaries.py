@@ -25,10 +25,11 @@ def visited_heads(module, state, top):
     visited = {(state, top): True}
     waiting = [(state, top)]
     while waiting:
-        for head in needed_heads(rules, endings, waiting.pop()):
-            if head not in visited:
-                visited[head] = True
-                waiting.append(head)
+        head = waiting.pop()
+        for needed in needed_heads(rules, endings, head):
+            if needed not in visited:
+                visited[needed] = True
+                waiting.append(needed)
     return tuple(sorted(visited))
 
 
