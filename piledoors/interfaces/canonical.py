@@ -30,7 +30,7 @@ def reading_in_class(table, base, reading):
         return reading
     if reading[0] == EXIT:
         return reading[:3] + (reading[3] - base,)
-    return (STATE, reading[1], reading[2] + table.leaving[reading[1]][1] - base)
+    return (STATE, reading[1], reading[2] + table.leaving[reading[1]] - base)
 
 
 def reached_rows(table, readings):
@@ -40,7 +40,7 @@ def reached_rows(table, readings):
     while waiting:
         state = waiting.pop()
         if state not in reached:
-            base = table.leaving[state][1]
+            base = table.leaving[state]
             row = [reading_in_class(table, base, reading) for reading in table.readings(state)]
             reached[state] = row
             waiting.extend([reading[1] for reading in row if reading[0] == STATE])
@@ -59,17 +59,58 @@ def parts_of(rows):
         shape = tuple([(STATE, reading[2]) if reading[0] == STATE else reading for reading in row])
         parts[state] = shapes.setdefault(shape, len(shapes))
         follow[state] = [reading[1] for reading in row if reading[0] == STATE]
-    many = 0
-    # This ends when no part is divided any more, or there is nothing left to divide.
-    while many < len(shapes) < len(rows):
-        many = len(shapes)
-        shapes = {}
-        finer = {}
-        for state, states in follow.items():
-            shape = (parts[state], tuple([parts[behind] for behind in states]))
-            finer[state] = shapes.setdefault(shape, len(shapes))
-        parts = finer
-    return parts
+    division = Division(parts, follow)
+    division.divide()
+    return division.parts
+
+
+class Division:
+    """States in parts, which are divided. `follow` tells to which states each one leads.
+
+    Of what a part is divided into, the greatest keeps its number. So no state gets a new number often, and only
+    where one does are those looked at again that lead to it.
+    """
+
+    def __init__(self, parts, follow):
+        self.parts = parts
+        self.follow = follow
+        self.sources = {state: [] for state in parts}
+        self.members = {}
+        for state, part in parts.items():
+            self.members.setdefault(part, {})[state] = True
+            for behind in follow[state]:
+                self.sources[behind].append(state)
+
+    def divide(self):
+        """Divides the parts until the states of each one lead to the same parts."""
+        fresh = list(self.parts)
+        while fresh:
+            before = {source: True for state in fresh for source in self.sources[state]}
+            groups = {}
+            for state in before:
+                shape = tuple([self.parts[behind] for behind in self.follow[state]])
+                groups.setdefault(self.parts[state], {}).setdefault(shape, []).append(state)
+            fresh = []
+            for part, shapes in groups.items():
+                fresh.extend(self.separate(part, list(shapes.values())))
+
+    def separate(self, part, groups):
+        """Divides a part into these groups and its other states. Returns the states that get a new number."""
+        others = self.members[part]
+        for group in groups:
+            for state in group:
+                others.pop(state)
+        # The other states lead to no new number, so they are not like any of the groups.
+        groups = sorted(groups, key=lambda group: -len(group))
+        if len(groups[0]) > len(others):
+            self.members[part] = {state: True for state in groups[0]}
+            groups = groups[1:] + ([list(others)] if others else [])
+        for group in groups:
+            number = len(self.members)
+            self.members[number] = {state: True for state in group}
+            for state in group:
+                self.parts[state] = number
+        return [state for group in groups for state in group]
 
 
 class Numbers:

@@ -11,8 +11,7 @@ from piledoors.values import are_names, is_tuple_of, is_whole, is_whole_within
 def interface(module, *, clock=False):
     """Returns the interface of the module."""
     require_module(module)
-    entries = [(name, (POP, state, 0)) for name, state in module[2]]
-    return canonical_interface(module[0], module[3], clock, entries, rows_of(module, clock))
+    return interface_of(module, clock)
 
 
 def is_interface(value):
@@ -44,6 +43,12 @@ def interface_result(interface, entry, stack):
 
 
 # What follows is for the package.
+
+
+def interface_of(module, clock):
+    """Returns the interface of a module."""
+    entries = [(name, (POP, state, 0)) for name, state in module[2]]
+    return canonical_interface(module[0], module[3], clock, entries, rows_of(module, clock))
 
 
 def has_form(value):

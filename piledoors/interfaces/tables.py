@@ -1,4 +1,4 @@
-"""Tables: rows of summaries, and what follows from them for each state: its leaving stack, its claim, its readings."""
+"""Tables: rows of summaries, and what follows from them for each state: how it leaves, its claim, its readings."""
 
 from piledoors.summaries.endings import EXIT, NEVER, NO_END, POP
 from piledoors.summaries.rows import rows_of
@@ -14,14 +14,14 @@ def table_of(module, clock):
 class Table:
     """Rows of summaries of the states 0, 1, .. with what follows from them.
 
-    `leaving` is a dict from each state that leaves to its leaving stack and the ticks on it, `claims` one from each
-    settled state to its claim.
+    `leaving` is a dict from each state that leaves to the ticks on its leaving stack, `claims` one from each settled
+    state to its claim.
     """
 
     def __init__(self, labels, rows):
         self.labels = labels
         self.rows = rows
-        self.leaving = leaving_stacks(labels, rows)
+        self.leaving = leaving_ticks(rows)
         self.claims = settled_claims(labels, rows, self.leaving)
         self.found = {}
 
@@ -57,17 +57,17 @@ def reading_of(summary, claims):
     return claim[:3] + (claim[3] + ticks,)
 
 
-def leaving_stacks(labels, rows):
-    """Returns a dict from each state that leaves on some stack to the smallest one, and the ticks on it."""
-    found = {state: ((), row[0][3]) for state, row in enumerate(rows) if row[0][0] == EXIT}
+def leaving_ticks(rows):
+    """Returns a dict from each state that leaves on some stack to the ticks on its leaving stack."""
+    found = {state: row[0][3] for state, row in enumerate(rows) if row[0][0] == EXIT}
     if len(found) == len(rows):
         return found
     sources = sources_of(rows)
     near = [state for state, row in enumerate(rows) if EXIT in [summary[0] for summary in row]]
     near.extend([source for state in found for source in sources[state]])
-    # In each round those states are found whose stacks have one label more.
+    # In each round those states are found whose leaving stacks have one label more.
     while near:
-        fresh = {state: way_out(labels, rows[state], found) for state in near if state not in found}
+        fresh = {state: ticks_of_way_out(rows[state], found) for state in near if state not in found}
         found.update(fresh)
         near = [source for state in fresh for source in sources[state]]
     return found
@@ -83,23 +83,21 @@ def sources_of(rows):
     return sources
 
 
-def way_out(labels, row, found):
-    """Returns the smallest stack on which a state with this row leaves, and its ticks.
+def ticks_of_way_out(row, found):
+    """Returns the ticks on the leaving stack of a state with this row.
 
-    The state leaves by some label at once, or one leads to a state whose stack is found.
+    Its first label is the first one by which the state leaves at once, or which leads to a state that is found.
     """
-    for at, label in enumerate(labels, start=1):
-        kind = row[at][0]
-        if kind == EXIT:
-            return (label,), row[at][3]
-        if kind == POP and row[at][1] in found:
-            stack, ticks = found[row[at][1]]
-            return (label,) + stack, row[at][2] + ticks
+    for summary in row[1:]:
+        if summary[0] == EXIT:
+            return summary[3]
+        if summary[0] == POP and summary[1] in found:
+            return summary[2] + found[summary[1]]
     return None
 
 
 def settled_claims(labels, rows, leaving):
-    """Returns a dict from each settled state to its claim, where the stacks of all states that leave are given."""
+    """Returns a dict from each settled state to its claim, where all states that leave are given."""
     claims = {state: NO_END for state in range(len(rows)) if state not in leaving}
     likely = [state for state, row in enumerate(rows) if row[0][0] == EXIT]
     # A claim rests on claims with one label more, so these are decided before.

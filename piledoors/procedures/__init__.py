@@ -1,0 +1,1 @@
+"""Stage 16: programs with procedures."""
