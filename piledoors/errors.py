@@ -1,5 +1,22 @@
 """The errors of the package."""
 
+# Python refuses to write out integers of some thousand digits.
+MOST_BITS = 10000
+
+
+def shown(value):
+    """Returns a text that shows the value, unless a very long integer is in it."""
+    return "(too long to be shown)" if has_long_integer(value) else repr(value)
+
+
+def has_long_integer(value):
+    """Returns whether the value is, or contains, a very long integer."""
+    if isinstance(value, int):
+        return value.bit_length() > MOST_BITS
+    if isinstance(value, dict):
+        return has_long_integer(list(value.items()))
+    return isinstance(value, (tuple, list)) and any([has_long_integer(part) for part in value])
+
 
 class PileError(ValueError):
     """The base of the errors that take a message."""
@@ -61,7 +78,7 @@ class UnknownEntry(KeyError):
     """The module has no entry with this name."""
 
     def __init__(self, name):
-        KeyError.__init__(self, f"unknown entry {name!r}")
+        KeyError.__init__(self, f"unknown entry {shown(name)}")
         self.name = name
 
 
@@ -69,7 +86,7 @@ class UnknownState(IndexError):
     """The value is not a state of the module."""
 
     def __init__(self, state):
-        IndexError.__init__(self, f"unknown state {state!r}")
+        IndexError.__init__(self, f"unknown state {shown(state)}")
         self.state = state
 
 
@@ -77,7 +94,7 @@ class InvalidNumber(IndexError):
     """The value is not an integer in the required range."""
 
     def __init__(self, value):
-        IndexError.__init__(self, f"invalid number {value!r}")
+        IndexError.__init__(self, f"invalid number {shown(value)}")
         self.value = value
 
 
@@ -85,7 +102,7 @@ class UnknownModule(LookupError):
     """There is no module with this name."""
 
     def __init__(self, name):
-        LookupError.__init__(self, f"unknown module {name!r}")
+        LookupError.__init__(self, f"unknown module {shown(name)}")
         self.name = name
 
 
@@ -93,7 +110,7 @@ class NameConflict(RuntimeError):
     """The name is in use."""
 
     def __init__(self, name):
-        RuntimeError.__init__(self, f"the name {name!r} is in use")
+        RuntimeError.__init__(self, f"the name {shown(name)} is in use")
         self.name = name
 
 
@@ -101,7 +118,7 @@ class TooLarge(OverflowError):
     """Something exceeds the limit."""
 
     def __init__(self, limit):
-        OverflowError.__init__(self, f"more than {limit!r}")
+        OverflowError.__init__(self, f"more than {shown(limit)}")
         self.limit = limit
 
 
@@ -109,7 +126,7 @@ class NotEquivalent(ArithmeticError):
     """Two modules differ on this stack."""
 
     def __init__(self, stack):
-        ArithmeticError.__init__(self, f"not equivalent on {stack!r}")
+        ArithmeticError.__init__(self, f"not equivalent on {shown(stack)}")
         self.stack = stack
 
 
@@ -117,5 +134,5 @@ class NothingToUndo(IndexError):
     """There are fewer edits than should be undone or redone."""
 
     def __init__(self, many):
-        IndexError.__init__(self, f"there are no {many!r} edits")
+        IndexError.__init__(self, f"there are no {shown(many)} edits")
         self.many = many

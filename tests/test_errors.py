@@ -38,6 +38,16 @@ class ErrorsTest(unittest.TestCase):
             self.assertRaises(TypeError, kind)
             self.assertRaises(TypeError, kind, 1, 2)
 
+    def test_very_long_integers(self):
+        """Python does not write them out, but an error keeps every value."""
+        for name, attribute, base in VALUES:
+            kind = getattr(errors, name)
+            for value in (10 ** 5000, -10 ** 5000, ("out", (), 10 ** 5000), [{"a": (1, 10 ** 5000)}], {10 ** 5000: 1}):
+                made = kind(value)
+                self.assertIs(getattr(made, attribute), value)
+                self.assertLess(len(str(made)), 100)
+            self.assertIn("9" * 2000, str(kind(10 ** 2000 - 1)))
+
     def test_there_are_no_other_classes(self):
         found = {name for name, worth in vars(errors).items() if isinstance(worth, type)}
         self.assertEqual(found, {"PileError"} | set(MESSAGES) | {name for name, _, _ in VALUES})

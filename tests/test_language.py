@@ -8,8 +8,11 @@ PACKAGE = pathlib.Path(__file__).resolve().parent.parent / "piledoors"
 BUILTINS = set("len range enumerate zip min max sum abs sorted reversed int str bool list tuple dict set isinstance ord "
                "repr any all divmod type".split())
 ERRORS = set("ValueError KeyError IndexError LookupError ArithmeticError OverflowError RuntimeError".split())
-METHODS = set("append clear copy count endswith extend find get index insert isalpha isascii islower items join keys pop "
-              "remove reverse setdefault split startswith update values".split())
+METHODS = set("append clear copy count endswith extend find get index insert isalpha isascii isdigit islower items join "
+              "keys partition pop reverse setdefault split startswith update values bit_length".split())
+# Methods of own classes that have the names of methods of builtin values.
+SHARED = {"__init__", "__eq__", "__len__", "__str__", "add", "remove"}
+KINDS = ("", 0, [], {}, (), set(), b"")
 # A smaller language than the rules allow, so that it is easy to check.
 NODES = (ast.Module, ast.Expr, ast.Constant, ast.ImportFrom, ast.alias, ast.FunctionDef, ast.ClassDef, ast.arguments,
          ast.arg, ast.Assign, ast.Name, ast.Load, ast.Store, ast.Return, ast.If, ast.For, ast.While, ast.Break,
@@ -43,12 +46,33 @@ INTERFACE = {
     "compare/equivalence": "reading(module,state,top,*,clock=) are_equivalent(first,second,*,clock=) "
                            "separating_stack(first,second,*,clock=) likeness(first,second,*,clock=) "
                            "is_likeness(first,second,value,*,clock=)",
+    "compare/slowdown": "slowdown(first,second) is_slowdown(first,second,value)",
+    "interfaces/realize": "state_count(interface) least_module(interface) least_form(module)",
+    "procedures/programs": "is_program(labels,value) is_system(labels,value)",
+    "procedures/plain": "answer(labels,system,procedure,inputs) calls_made(labels,system,procedure,inputs,*,limit=)",
+    "procedures/compiler": "program_module(labels,program) system_module(labels,system)",
+    "workshop/workshop": "MAX_MODULES Workshop",
+    "text/formats": "MAX_DIGITS format_stack(labels,stack) parse_stack(labels,text) format_rule(rule) parse_rule(text) "
+                    "format_wires(wires) parse_wires(text) format_result(result) parse_result(text) format_module(module) "
+                    "parse_module(text) format_interface(interface) parse_interface(text)",
+    "text/shell": "Shell",
     "compare/replacement": "may_replace(old,new) replacement_gap(old,new) replacement(old,new) is_replacement(old,new,value)",
     "linking/link": "is_wires(first,second,value) link(first,second,wires,*,kept=) link_self(module,wires,*,kept=) "
                     "rename(module,*,entries=,exits=)",
     "linking/contexts": "is_context(module,value) context_outcome(module,context) separating_context(first,second,*,clock=)",
     "linking/interfaces": "link_interfaces(first,second,wires,*,kept=) link_self_interface(interface,wires,*,kept=) "
                           "rename_interface(interface,*,entries=,exits=)",
+}
+CLASSES = {
+    "workshop/workshop": ("Workshop", "__init__(self,labels) __len__(self) __str__(self) __eq__(self,other) labels(self) "
+                          "names(self) log(self) computed(self) add(self,name,module) remove(self,name) "
+                          "set_rule(self,name,state,top,target,push) clear_rule(self,name,state,top) "
+                          "link(self,name,first,second,wires,*,kept=) apply(self,edit) apply_all(self,edits) "
+                          "undo(self,*,many=) redo(self,*,many=) module(self,name) result(self,name,entry,stack) "
+                          "summary(self,name,state,top) interface(self,name,*,clock=) "
+                          "equivalent(self,first,second,*,clock=) users(self,name) twin(self)"),
+    "text/shell": ("Shell", "__init__(self,labels) __len__(self) __str__(self) __eq__(self,other) history(self) "
+                   "workshop(self) run(self,command) run_all(self,commands)"),
 }
 
 
@@ -114,15 +138,20 @@ class LanguageTest(unittest.TestCase):
     def test_calls(self):
         methods = {node.name for tree in trees().values() for each in ast.walk(tree) if isinstance(each, ast.ClassDef)
                    for node in each.body if isinstance(node, ast.FunctionDef)}
-        self.assertEqual([name for name in methods if hasattr("", name) or hasattr([], name) or hasattr({}, name)],
-                         ["__init__"])
+        self.assertEqual({name for name in methods if [kind for kind in KINDS if hasattr(kind, name)]}, SHARED)
         for path, tree in trees().items():
-            known = {name for node in tree.body for name in self.bound_by(node)} | BUILTINS | ERRORS
+            known = {name for node in tree.body for name in self.bound_by(node)} | BUILTINS | ERRORS | self.from_tables(tree)
             for node in ast.walk(tree):
                 if isinstance(node, ast.Call) and isinstance(node.func, ast.Name):
                     self.assertIn(node.func.id, known, f"{path}:{node.lineno}")
                 if isinstance(node, ast.Call) and isinstance(node.func, ast.Attribute):
                     self.assertIn(node.func.attr, METHODS | methods, f"{path}:{node.lineno}")
+
+    def from_tables(self, tree):
+        """The local names of functions that are taken out of a table at module level."""
+        tables = {node.targets[0].id for node in tree.body if isinstance(node, ast.Assign) and isinstance(node.value, ast.Dict)}
+        return {node.targets[0].id for node in ast.walk(tree) if isinstance(node, ast.Assign)
+                and isinstance(node.value, ast.Subscript) and getattr(node.value.value, "id", None) in tables}
 
     def test_identity(self):
         """Only None, True and False are compared by `is`."""
@@ -163,15 +192,19 @@ class LanguageTest(unittest.TestCase):
                 for node in ast.walk(each):
                     if isinstance(node, ast.Attribute) and isinstance(node.ctx, ast.Store):
                         self.assertNotIn(node.attr, methods, path)
-                        self.assertFalse([kind for kind in ("", 0, [], {}, (), set()) if hasattr(kind, node.attr)], node.attr)
+                        self.assertFalse([kind for kind in KINDS if hasattr(kind, node.attr)], node.attr)
 
     def test_module_level(self):
-        """Only plain values stand there, which contain no names."""
+        """Only plain values stand there, and functions that are defined above."""
         for path, tree in trees().items():
+            defined = set()
             for node in tree.body:
+                if isinstance(node, ast.FunctionDef):
+                    defined.add(node.name)
                 if isinstance(node, ast.Assign):
                     self.assertEqual(len(node.targets), 1, path)
-                    self.assertFalse([part for part in ast.walk(node.value) if isinstance(part, (ast.Name, ast.Call))], path)
+                    self.assertFalse([part for part in ast.walk(node.value) if isinstance(part, ast.Call)], path)
+                    self.assertLessEqual({part.id for part in ast.walk(node.value) if isinstance(part, ast.Name)}, defined, path)
 
     def test_interface(self):
         for name, members in INTERFACE.items():
@@ -186,6 +219,26 @@ class LanguageTest(unittest.TestCase):
             for node in tree.body:
                 if isinstance(node, (ast.FunctionDef, ast.ClassDef)):
                     self.assertTrue(ast.get_docstring(node), node.name)
+
+    def test_classes(self):
+        """Each method stands in the class itself."""
+        for name, (kind, methods) in CLASSES.items():
+            tree = trees()[PACKAGE / (name + ".py")]
+            body = [node for node in tree.body if isinstance(node, ast.ClassDef) and node.name == kind][0].body
+            functions = {node.name: node for node in body if isinstance(node, ast.FunctionDef)}
+            for member in methods.split():
+                plain, _, parameters = member.partition("(")
+                self.assertEqual(self.signature(functions[plain].args), parameters[:-1], member)
+            self.assertEqual([each for each in functions if not each.startswith("_")],
+                             [member.partition("(")[0] for member in methods.split() if not member.startswith("_")])
+
+    def test_sets(self):
+        """No set is stored or iterated, as classes of the package have a method called add."""
+        for path, tree in trees().items():
+            for node in ast.walk(tree):
+                self.assertNotIsInstance(node, (ast.Set, ast.SetComp, ast.GeneratorExp), path)
+                if isinstance(node, ast.Call) and isinstance(node.func, ast.Name):
+                    self.assertNotEqual(node.func.id, "set", path)
 
     def signature(self, args):
         self.assertEqual((args.vararg, args.kwarg, args.posonlyargs, args.defaults), (None, None, [], []))

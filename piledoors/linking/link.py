@@ -16,13 +16,7 @@ def is_wires(first, second, value):
 def link(first, second, wires, *, kept=()):
     """Returns the linked module."""
     require_parts(first, second)
-    doors = doors_of_modules([first, second])
-    require_wires(doors, wires, kept)
-    entries = entries_left(doors, wires, kept)
-    require_distinct([name for name, side in entries])
-    if first[1] + second[1] > MAX_STATES:
-        raise TooLarge(MAX_STATES)
-    require_few(entries, exits_left(doors, wires))
+    require_linkable(first, second, wires, kept)
     return linked([first, second], wires, kept)
 
 
@@ -56,6 +50,17 @@ def require_parts(first, second):
         raise InvalidModule("not a module, or with other labels than the first one")
 
 
+def require_linkable(first, second, wires, kept):
+    """Raises an error if these modules with the same labels cannot be linked by the wires, with these kept entries."""
+    doors = doors_of_modules([first, second])
+    require_wires(doors, wires, kept)
+    entries = entries_left(doors, wires, kept)
+    require_distinct([name for name, side in entries])
+    if first[1] + second[1] > MAX_STATES:
+        raise TooLarge(MAX_STATES)
+    require_few(entries, exits_left(doors, wires))
+
+
 def doors_of_modules(modules):
     """Returns the doors of the modules, in their order."""
     return [doors_of(module[2], module[3]) for module in modules]
@@ -72,17 +77,25 @@ def linked(modules, wires, kept):
 
 def linked_rules(modules, wires):
     """Returns the rules of the modules side by side, where those with a wired exit go on at the entry."""
-    firsts = first_states(modules)
-    ways = {door: firsts[side] + start_of(modules[side], name) for door, (side, name) in wires}
+    ways = ways_of_wires(modules, wires)
     rules = []
-    for side, module in enumerate(modules):
-        for state, top, target, push in module[4]:
-            if isinstance(target, str):
-                goal = ways.get((side, target), target)
-            else:
-                goal = firsts[side] + target
-            rules.append((firsts[side] + state, top, goal, push))
+    for side, first_state in enumerate(first_states(modules)):
+        for state, top, target, push in modules[side][4]:
+            rules.append((first_state + state, top, linked_target(ways, side, first_state, target), push))
     return tuple(rules)
+
+
+def ways_of_wires(modules, wires):
+    """Returns a dict from each wired exit, with its side, to the state of the linked module to which it leads."""
+    firsts = first_states(modules)
+    return {door: firsts[side] + start_of(modules[side], name) for door, (side, name) in wires}
+
+
+def linked_target(ways, side, first_state, target):
+    """Returns the target in the linked module of a rule of this side, whose states are counted from the first state."""
+    if isinstance(target, str):
+        return ways.get((side, target), target)
+    return first_state + target
 
 
 def first_states(modules):

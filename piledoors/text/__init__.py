@@ -1,0 +1,1 @@
+"""Stages 18 and 19: texts and a shell."""

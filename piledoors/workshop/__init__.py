@@ -1,0 +1,1 @@
+"""Stage 17: a workshop."""
