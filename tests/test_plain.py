@@ -43,7 +43,7 @@ class ExamplesTest(unittest.TestCase):
 class AnswerTest(unittest.TestCase):
     def test_plain_evaluation(self):
         told = []
-        for system in make_systems(171, 700):
+        for system in make_systems(171, 500):
             for name, inputs in all_runs(system):
                 found = answer(FULL, system, name, inputs)
                 self.assertEqual(found, Plain(system).answer(name, inputs), (system, name, inputs))
@@ -51,7 +51,7 @@ class AnswerTest(unittest.TestCase):
                 for order in itertools.permutations(system):
                     self.assertEqual(answer(FULL, order, name, inputs), found)
                 told.append(found)
-        self.assertGreater(min(told.count(one) for one in (None, 0, 1)), 300)
+        self.assertGreater(min(told.count(one) for one in (None, 0, 1)), 200)
 
     def test_even_and_odd(self):
         for bits in bits_of(2):
@@ -125,7 +125,7 @@ class AnswerTest(unittest.TestCase):
 class CallsTest(unittest.TestCase):
     def test_plain_evaluation(self):
         lengths = []
-        for system in make_systems(172, 250):
+        for system in make_systems(172, 100):
             for name, inputs in all_runs(system):
                 events, ended = events_of(system, name, inputs, 45)
                 for limit in range(46):
@@ -137,10 +137,10 @@ class CallsTest(unittest.TestCase):
                     self.assertEqual(told, events)
                     self.assertEqual(told[-1], ("return", name, answer(FULL, system, name, inputs)))
                 lengths.append(len(told) if ended or len(told) == 1000 else -len(told))
-        self.assertGreater(lengths.count(1000), 100)
-        self.assertGreater(len([one for one in lengths if one > 4]), 100)
-        self.assertGreater(len([one for one in lengths if one < 0]), 50)
-        self.assertGreater(len([one for one in lengths if one < -2]), 5)
+        self.assertGreater(lengths.count(1000), 40)
+        self.assertGreater(len([one for one in lengths if one > 4]), 40)
+        self.assertGreater(len([one for one in lengths if one < 0]), 20)
+        self.assertGreater(len([one for one in lengths if one < -2]), 2)
 
     def test_limits(self):
         first = (("call", "even", (1, 1)), ("call", "odd", (1, 0)), ("call", "even", (0, 1)), ("call", "odd", (0, 0)))

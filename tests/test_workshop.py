@@ -408,6 +408,13 @@ class HistoryTest(unittest.TestCase):
             self.assertIs(workshop != value, True)
         self.assertIs(Workshop(AB) == Workshop(AB), True)
         self.assertIs(Workshop(AB) == Workshop(("a",)), False)
+        alone = [Workshop(AB), Workshop(AB), Workshop(AB)]
+        for each, (name, module) in zip(alone, (("d", D), ("d", T), ("t", D))):
+            each.add(name, module)
+        self.assertEqual([alone[0] == each for each in alone], [True, False, False])
+        alone[1].remove("d")
+        alone[1].add("d", D)
+        self.assertIs(alone[0] == alone[1], True)
         self.assertIs(workshop == make_workshop(), True)
         other = Workshop(AB)
         other.add("c", C[:4] + (C[4][:2],))

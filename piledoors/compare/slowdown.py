@@ -163,8 +163,9 @@ def is_growing(pairs, value):
     if entry not in list(pairs.starts) or not all([is_word(pairs.labels, word) for word in value[2:]]):
         return False
     behind = pairs.along(pairs.starts[entry], before)
-    if behind is None or not around:
+    if behind is None:
         return False
+    # Nothing is gained along an empty word.
     back = pairs.along(behind[0], around)
     if back is None or back[0] != behind[0] or back[1] < 1:
         return False

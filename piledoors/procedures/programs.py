@@ -117,16 +117,20 @@ class Form:
 
     def is_statement(self, flags, value, depth):
         """Returns whether the value is a statement for so many flags that may stand in a body at this depth."""
-        if is_tuple_of(value, 3) and value[0] == SET:
-            return is_flag(flags, value[1]) and is_expression(flags, value[2], 1)
-        if is_tuple_of(value, 5) and value[0] == CALL:
-            return is_flag(flags, value[1]) and self.is_call(flags, value)
-        if is_tuple_of(value, 4) and value[0] == IF:
-            bodies = self.is_body(flags, value[2], depth + 1) and self.is_body(flags, value[3], depth + 1)
-            return bodies and is_expression(flags, value[1], 1)
-        if is_tuple_of(value, 3) and value[0] == WHILE:
-            return is_expression(flags, value[1], 1) and self.is_body(flags, value[2], depth + 1)
-        return is_tuple_of(value, 2) and value[0] == RETURN and is_expression(flags, value[1], 1)
+        if not (isinstance(value, tuple) and len(value) >= 2):
+            return False
+        word = value[0]
+        if word == SET:
+            return len(value) == 3 and is_flag(flags, value[1]) and is_expression(flags, value[2], 1)
+        if word == CALL:
+            return len(value) == 5 and is_flag(flags, value[1]) and self.is_call(flags, value)
+        if word == IF:
+            if len(value) != 4 or not is_expression(flags, value[1], 1):
+                return False
+            return self.is_body(flags, value[2], depth + 1) and self.is_body(flags, value[3], depth + 1)
+        if word == WHILE:
+            return len(value) == 3 and is_expression(flags, value[1], 1) and self.is_body(flags, value[2], depth + 1)
+        return word == RETURN and len(value) == 2 and is_expression(flags, value[1], 1)
 
     def is_call(self, flags, value):
         """Returns whether this tuple of five parts calls a name that can be called, in the right way."""
@@ -150,13 +154,15 @@ def is_expression(flags, value, depth):
     """Returns whether the value is an expression for so many flags that may stand at this depth."""
     if depth > MAX_EXPRESSIONS:
         return False
-    if is_tuple_of(value, 2) and value[0] == FLAG:
-        return is_flag(flags, value[1])
-    if is_tuple_of(value, 2) and value[0] == NOT:
-        return is_expression(flags, value[1], depth + 1)
-    if is_tuple_of(value, 3) and value[0] in (AND, OR):
-        return is_expression(flags, value[1], depth + 1) and is_expression(flags, value[2], depth + 1)
-    return is_bit(value)
+    if not isinstance(value, tuple):
+        return is_bit(value)
+    if len(value) == 2:
+        if value[0] == FLAG:
+            return is_flag(flags, value[1])
+        return value[0] == NOT and is_expression(flags, value[1], depth + 1)
+    if len(value) != 3 or value[0] not in (AND, OR):
+        return False
+    return is_expression(flags, value[1], depth + 1) and is_expression(flags, value[2], depth + 1)
 
 
 def calls_in(procedures):

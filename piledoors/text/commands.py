@@ -2,7 +2,8 @@
 
 from piledoors.errors import InvalidCommand, ParseError
 from piledoors.modules.modules import is_top
-from piledoors.text.formats import integer_of, name_of, parse_module, parse_rule, parse_stack, parse_wires, top_of
+from piledoors.text.formats import integer_of, parse_module, parse_rule, parse_stack, parse_wires, top_of
+from piledoors.values import is_name
 
 # The words of each command: fixed ones, and in capital letters what is written in their places.
 PATTERNS = (
@@ -68,7 +69,9 @@ def is_like(pattern, parts):
 def value_of_word(labels, word, text):
     """Returns the value of a text that stands for this word of a pattern."""
     if word == "NAME":
-        return name_of(text)
+        if not is_name(text):
+            raise ParseError("not a name")
+        return text
     if word == "INTEGER":
         return integer_of(text)
     if word == "TOP":

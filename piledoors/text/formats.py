@@ -43,11 +43,7 @@ def format_rule(rule):
 
 def parse_rule(text):
     """Returns the rule that has this text."""
-    parts = parts_of(text)
-    if len(parts) < 5 or parts[2] != ARROW:
-        raise ParseError("not the parts of a rule")
-    target = integer_of(parts[3]) if parts[3].isdigit() else parts[3]
-    rule = (integer_of(parts[0]), top_of(parts[1]), target, word_of(parts[4:]))
+    rule = rule_of(parts_of(text))
     if not is_rule_form(rule):
         raise ParseError("not a rule")
     return rule
@@ -111,7 +107,7 @@ def parse_module(text):
     exits = word_of(behind_word(lines[3], "exits"))
     if len(sizes) != 1:
         raise ParseError("not one number of states")
-    module = (labels, integer_of(sizes[0]), entries, exits, tuple([parse_rule(line) for line in lines[4:]]))
+    module = (labels, integer_of(sizes[0]), entries, exits, tuple([rule_of(line.split(" ")) for line in lines[4:]]))
     if not is_module(module):
         raise ParseError("not a module")
     return module
@@ -227,7 +223,8 @@ def text_of_outcome(outcome):
     return f"{EXIT} {outcome[1]} {text_of_integer(outcome[3])} {text_of_names(outcome[2])}"
 
 
-# Values of texts. These functions raise an error if there is none; some leave it to others to look at the names.
+# Values of texts. These functions raise an error if the parts or the integers are wrong. They do not look at the words:
+# whoever calls them checks the whole value, in which a part that is no name is found.
 
 
 def parts_of(text):
@@ -246,7 +243,7 @@ def lines_of(text):
 
 def behind_word(line, word):
     """Returns the parts of a line behind this word, with which it begins."""
-    parts = parts_of(line)
+    parts = line.split(" ")
     if parts[0] != word or len(parts) < 2:
         raise ParseError("a line does not begin with the right word, or ends with it")
     return parts[1:]
@@ -258,23 +255,15 @@ def listed(parts):
 
 
 def word_of(parts):
-    """Returns the word or the names that these parts spell."""
-    word = tuple(listed(parts))
-    if not are_names(word, False):
-        raise ParseError("not names")
-    return word
+    """Returns the word that these parts spell."""
+    return tuple(listed(parts))
 
 
 def top_of(part):
     """Returns the top that has this text."""
-    return EMPTY if part == NOTHING else name_of(part)
-
-
-def name_of(part):
-    """Returns the name that this part is."""
-    if not is_name(part):
-        raise ParseError("not a name")
-    return part
+    if part == EMPTY:
+        raise ParseError("a top is missing")
+    return EMPTY if part == NOTHING else part
 
 
 def integer_of(part):
@@ -295,10 +284,18 @@ def halves_of(part, sign):
     return halves
 
 
+def rule_of(parts):
+    """Returns the rule whose text has these parts."""
+    if len(parts) < 5 or parts[2] != ARROW:
+        raise ParseError("not the parts of a rule")
+    target = integer_of(parts[3]) if parts[3].isdigit() else parts[3]
+    return (integer_of(parts[0]), top_of(parts[1]), target, word_of(parts[4:]))
+
+
 def entry_of(part):
     """Returns the entry of a module that has this text."""
     name, state = halves_of(part, "=")
-    return (name_of(name), integer_of(state))
+    return (name, integer_of(state))
 
 
 def wire_of(part):
@@ -310,7 +307,7 @@ def wire_of(part):
 def door_of(part):
     """Returns the pair of a side and a name that has this text."""
     side, name = halves_of(part, ".")
-    return (integer_of(side), name_of(name))
+    return (integer_of(side), name)
 
 
 def outcome_of_parts(parts):
@@ -320,14 +317,14 @@ def outcome_of_parts(parts):
     if len(parts) == 3 and parts[0] == CLASS:
         return (CLASS, integer_of(parts[1]), integer_of(parts[2]))
     if len(parts) >= 4 and parts[0] == EXIT:
-        return (EXIT, name_of(parts[1]), word_of(parts[3:]), integer_of(parts[2]))
+        return (EXIT, parts[1], word_of(parts[3:]), integer_of(parts[2]))
     raise ParseError("not an outcome")
 
 
 def door_outcome_of(line):
     """Returns the name and the outcome of an entry of an interface that has this line."""
     parts = behind_word(line, "entry")
-    return (name_of(parts[0]), outcome_of_parts(parts[1:]))
+    return (parts[0], outcome_of_parts(parts[1:]))
 
 
 def classes_of(tops, lines):
@@ -335,7 +332,7 @@ def classes_of(tops, lines):
     rows = []
     height = 1 + len(tops)
     for start in range(0, len(lines), height):
-        if lines[start] != f"{CLASS} {len(rows)}" or start + height > len(lines):
+        if lines[start] != f"{CLASS} {len(rows)}":
             raise ParseError("not the lines of the next class")
         row = []
         for top, line in zip(tops, lines[start + 1:start + height]):

@@ -10,13 +10,13 @@ from piledoors.summaries.summaries import needed_heads
 class Stored:
     """A module with its summaries. It is never changed: where an edit changes a module, another one takes its place.
 
-    `frame` is the module without its rules, `rules` has a tuple of the rules of each state, and `rows` has the row of
+    `outline` is the module without its rules, `rules` has a tuple of the rules of each state, and `rows` has the row of
     each state: what an edit does not concern is shared. `definition` and `ways` are None for an own module. For a
     link, they are its two names, its wires and its kept entries, and the states to which its wires lead.
     """
 
-    def __init__(self, frame, rules, rows, definition, ways):
-        self.frame = frame
+    def __init__(self, outline, rules, rows, definition, ways):
+        self.outline = outline
         self.rules = rules
         self.rows = rows
         self.definition = definition
@@ -24,11 +24,11 @@ class Stored:
 
     def module(self):
         """Returns the module."""
-        return self.frame + (tuple([rule for rules in self.rules for rule in rules]),)
+        return self.outline + (tuple([rule for rules in self.rules for rule in rules]),)
 
     def tops(self):
         """Returns all tops, in the order of a row."""
-        return (EMPTY,) + self.frame[0]
+        return (EMPTY,) + self.outline[0]
 
     def rule(self, state, top):
         """Returns the target and the push of the rule with this head, or None."""
@@ -36,7 +36,7 @@ class Stored:
 
     def summary(self, head):
         """Returns the summary of the head."""
-        return self.rows[head[0]][place_in_row(self.frame[0], head[1])]
+        return self.rows[head[0]][place_in_row(self.outline[0], head[1])]
 
     def ending(self, head):
         """Returns the same: what is stored is worked out."""
@@ -64,7 +64,7 @@ class Stored:
         rows = list(self.rows)
         for state in states:
             rows[state] = tuple([found.get((state, top), NO_END) for top in tops])
-        return Stored(self.frame, tuple(rules), tuple(rows), self.definition, self.ways), len(visitors)
+        return Stored(self.outline, tuple(rules), tuple(rows), self.definition, self.ways), len(visitors)
 
     def visitors(self, endings, heads):
         """Returns a dict of the heads that have one of these heads among their visited heads, by all endings."""

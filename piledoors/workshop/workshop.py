@@ -72,7 +72,6 @@ class Workshop:
 
     def remove(self, name):
         """Removes a module."""
-        self._find(name)
         if self.users(name):
             raise InvalidEdit("the module is a part of a link")
         contents = {each: stored for each, stored in self._stored().items() if each != name}
@@ -82,15 +81,15 @@ class Workshop:
         """Gives an own module a rule, in the place of one with the same head."""
         own = self._find_own(name)
         rule = (state, top, target, push)
-        if not fits_module(own.frame, rule):
+        if not fits_module(own.outline, rule):
             raise InvalidRule("the rule does not fit the module")
         self._change((SET, name) + rule, name, (state, top), (target, push))
 
     def clear_rule(self, name, state, top):
         """Removes a rule of an own module."""
         own = self._find_own(name)
-        require_state(own.frame, state)
-        require_top(own.frame, top)
+        require_state(own.outline, state)
+        require_top(own.outline, top)
         if own.rule(state, top) is None:
             raise InvalidRule("the module has no rule with this head")
         self._change((CLEAR, name, state, top), name, (state, top), None)
@@ -149,15 +148,15 @@ class Workshop:
     def result(self, name, entry, stack):
         """Returns the result of the module, or None if control never leaves."""
         stored = self._find(name)
-        state = start_of(stored.frame, entry)
-        require_stack(stored.frame, stack)
+        state = start_of(stored.outline, entry)
+        require_stack(stored.outline, stack)
         return result_behind(stored, stack, laid_bare(stored, state, stack)[-1])
 
     def summary(self, name, state, top):
         """Returns the summary of a head of the module."""
         stored = self._find(name)
-        require_state(stored.frame, state)
-        require_top(stored.frame, top)
+        require_state(stored.outline, state)
+        require_top(stored.outline, top)
         return stored.summary((state, top))
 
     def interface(self, name, *, clock=False):
@@ -226,7 +225,7 @@ class Workshop:
         """Performs an edit that puts a module, all of whose summaries are new, under a name."""
         contents = dict(self._stored())
         contents[name] = stored
-        self._stand(edit, contents, stored.frame[1] * len(stored.tops()))
+        self._stand(edit, contents, stored.outline[1] * len(stored.tops()))
 
     def _change(self, edit, name, head, told):
         """Performs an edit of the rule with this head, in the module and in the links that have it as a part."""
@@ -235,7 +234,7 @@ class Workshop:
         total = 0
         for each, stored in self._stored().items():
             if stored.definition is not None:
-                changes[each] = changes_in_link(stored, contents[stored.definition[0]].frame[1], changes)
+                changes[each] = changes_in_link(stored, contents[stored.definition[0]].outline[1], changes)
             if changes.get(each):
                 contents[each], many = stored.changed(changes[each])
                 total = total + many
