@@ -5,17 +5,19 @@ MOST_BITS = 10000
 
 
 def shown(value):
-    """Returns a text that shows the value, unless a very long integer is in it."""
-    return "(too long to be shown)" if has_long_integer(value) else repr(value)
+    """Returns a text for the value, which shows it if it can be shown."""
+    return repr(value) if can_be_shown(value) else "(something that is not shown)"
 
 
-def has_long_integer(value):
-    """Returns whether the value is, or contains, a very long integer."""
+def can_be_shown(value):
+    """Returns whether the value consists of plain values, none of which is a very long integer."""
     if isinstance(value, int):
-        return value.bit_length() > MOST_BITS
+        return value.bit_length() <= MOST_BITS
     if isinstance(value, dict):
-        return has_long_integer(list(value.items()))
-    return isinstance(value, (tuple, list)) and any([has_long_integer(part) for part in value])
+        return can_be_shown(list(value.items()))
+    if isinstance(value, (tuple, list)):
+        return all([can_be_shown(part) for part in value])
+    return value is None or isinstance(value, str)
 
 
 class PileError(ValueError):

@@ -1,6 +1,7 @@
 import unittest
 
 from piledoors import errors
+from piledoors.workshop.workshop import Workshop
 
 MESSAGES = ("InvalidLabels", "InvalidStack", "InvalidModule", "InvalidRule", "InvalidInterface", "InvalidWires",
             "InvalidBlocks", "InvalidContext", "InvalidProgram", "InvalidEdit", "InvalidClaim", "ParseError",
@@ -38,11 +39,12 @@ class ErrorsTest(unittest.TestCase):
             self.assertRaises(TypeError, kind)
             self.assertRaises(TypeError, kind, 1, 2)
 
-    def test_very_long_integers(self):
-        """Python does not write them out, but an error keeps every value."""
+    def test_what_is_not_shown(self):
+        """Python does not write them out, but an error keeps every value; and objects."""
         for name, attribute, base in VALUES:
             kind = getattr(errors, name)
-            for value in (10 ** 5000, -10 ** 5000, ("out", (), 10 ** 5000), [{"a": (1, 10 ** 5000)}], {10 ** 5000: 1}):
+            workshop = Workshop(("a",))
+            for value in (10 ** 5000, -10 ** 5000, ("out", (), 10 ** 5000), [{"a": (1, 10 ** 5000)}], {10 ** 5000: 1}, workshop, (workshop, 1)):
                 made = kind(value)
                 self.assertIs(getattr(made, attribute), value)
                 self.assertLess(len(str(made)), 100)
