@@ -240,6 +240,16 @@ class SlowdownTest(unittest.TestCase):
     def lead(self, length, slow):
         return sum((at % 5 < slow[1]) - (at % 3 < slow[0]) for at in range(length))
 
+    def test_the_best_of_several_moves(self):
+        """Two labels promise more than the end; whichever comes first, the one with more is taken."""
+        rest = tuple((state, top, state if top else "out", ()) for state in (1, 2) for top in ("",) + AB)
+        for many, more, stack in ((10, 5, ("a",)), (5, 10, ("b",)), (1, 0, ("a",)), (0, 0, ())):
+            first, second = [(AB, 3, (("in", 0),), ("low", "out"), (
+                (0, "", "out", ()), (0, "a", 1, ("a",) * one), (0, "b", 2, ("b",) * two)) + rest) for one, two in ((0, 0), (many, more))]
+            paper = slowdown(first, second)
+            self.assertEqual(paper[:4], ("bound", max(many, more), "in", stack))
+            self.assertIs(is_slowdown(first, second, paper), True)
+
     def test_eleven_labels(self):
         more = sum(20 ** power for power in range(12)) - 1
         paper = slowdown(removing(TWELVE), replacing())
